@@ -1,0 +1,1 @@
+"""Fractionroads: roads between fractions, level by level."""
