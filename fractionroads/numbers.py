@@ -25,3 +25,28 @@ def division(top, bottom):
         told.append(whole)
         top, bottom = bottom, rest
     return told
+
+
+def shares(one, other):
+    """Whole numbers s and t: s times the one and t times the other make the greatest common divisor."""
+    s, later_s = 1, 0
+    t, later_t = 0, 1
+    while other != 0:
+        whole, rest = divmod(one, other)
+        one, other = other, rest
+        s, later_s = later_s, s - whole * later_s
+        t, later_t = later_t, t - whole * later_t
+    # The divisor itself is not below 0; the last rest may be.
+    if one < 0:
+        return (-s, -t)
+    return (s, t)
+
+
+def divisors(number):
+    """What divides a whole number from 1 on: a rising list, from 1 to the number."""
+    return [each for each in range(1, number + 1) if number % each == 0]
+
+
+def primes_in(number):
+    """The primes that divide a whole number from 1 on: a rising list."""
+    return [each for each in divisors(number) if len(divisors(each)) == 2]

@@ -27,6 +27,7 @@ UNUSED_WORDS = re.compile(
     r"|namedtuple|NamedTuple|TypedDict|TYPE_CHECKING|abstractmethod)\b|dataclass|overload|contextmanager")
 BARRED = (ast.Global, ast.AsyncFunctionDef, ast.AsyncFor, ast.AsyncWith, ast.Await, ast.NamedExpr, ast.Div,
           ast.Import, ast.MatMult)
+ITERATORS = ("list", "tuple", "dict", "sorted", "sum", "any", "all", "enumerate", "zip", "min", "max")
 MODULE_LEVEL = (ast.ImportFrom, ast.FunctionDef, ast.ClassDef, ast.Assign, ast.AnnAssign)
 
 
@@ -55,6 +56,24 @@ def bound_names(node):
 
 def is_docstring(node):
     return isinstance(node, ast.Expr) and isinstance(node.value, ast.Constant) and isinstance(node.value.value, str)
+
+
+def is_iterated_at_once(node):
+    """Whether a node is a call of what L23 lets stand only where it is iterated."""
+    if not isinstance(node, ast.Call):
+        return False
+    if isinstance(node.func, ast.Name):
+        return node.func.id in ("zip", "enumerate", "reversed", "range")
+    return isinstance(node.func, ast.Attribute) and node.func.attr in ("items", "keys", "values")
+
+
+def iterates(node, inner):
+    """Whether a node iterates what stands in it."""
+    if isinstance(node, (ast.For, ast.comprehension)):
+        return node.iter == inner
+    if isinstance(node, ast.Call) and isinstance(node.func, ast.Name):
+        return node.args[0] == inner and node.func.id in ITERATORS
+    return isinstance(node, ast.Compare) and isinstance(node.ops[0], (ast.In, ast.NotIn))
 
 
 class TestFiles(unittest.TestCase):
@@ -138,6 +157,44 @@ class TestCode(unittest.TestCase):
         for name, node in nodes():
             if isinstance(node, ast.Call) and isinstance(node.func, ast.Attribute):
                 self.assertIn(node.func.attr, METHODS | own, f"{name}:{node.lineno}")
+
+    def test_is_only_with_none_and_truths(self):
+        for name, node in nodes():
+            if isinstance(node, ast.Compare) and any(isinstance(op, (ast.Is, ast.IsNot)) for op in node.ops):
+                self.assertIsInstance(node.comparators[0], ast.Constant, f"{name}:{node.lineno}")
+                self.assertIn(node.comparators[0].value, (None, True, False), f"{name}:{node.lineno}")
+
+    def test_no_name_is_a_method_and_an_attribute(self):
+        methods = {inner.name for name, node in nodes() if isinstance(node, ast.ClassDef)
+                   for inner in node.body if isinstance(inner, ast.FunctionDef)}
+        attributes = [(name, node) for name, node in nodes() if isinstance(node, ast.Attribute)]
+        stored = {node.attr for name, node in attributes if isinstance(node.ctx, ast.Store)}
+        self.assertEqual(methods & stored, set())
+        for name, node in attributes:
+            self.assertIn(node.attr, METHODS | methods | stored, f"{name}:{node.lineno}")
+
+    def test_what_is_iterated_at_once_is_not_stored(self):
+        for name, node in nodes():
+            for inner in ast.iter_child_nodes(node):
+                if is_iterated_at_once(inner):
+                    self.assertTrue(iterates(node, inner), f"{name}:{inner.lineno}")
+
+    def test_sets_stand_in_plain_assignments_or_tests(self):
+        for name, node in nodes():
+            self.assertNotIsInstance(node, (ast.SetComp, ast.Set))
+            for inner in ast.iter_child_nodes(node):
+                if isinstance(inner, ast.Call) and isinstance(inner.func, ast.Name) and inner.func.id == "set":
+                    self.assertIsInstance(node, (ast.Assign, ast.Compare), f"{name}:{inner.lineno}")
+
+    def test_no_two_files_import_from_each_other(self):
+        needs = {name[:-3]: set() for name, text in sources()}
+        for name, node in nodes():
+            if isinstance(node, ast.ImportFrom) and node.module != "__future__":
+                needs[name[:-3]].add(node.module.split(".")[1])
+        while needs:
+            free = [name for name in needs if not needs[name] & set(needs)]
+            self.assertTrue(free, f"a ring of imports among {sorted(needs)}")
+            needs = {name: needs[name] for name in needs if name not in free}
 
 
 if __name__ == "__main__":

@@ -4,7 +4,7 @@ import math
 import unittest
 from fractions import Fraction
 
-from fractionroads.numbers import common_divisor, division, is_whole
+from fractionroads.numbers import common_divisor, division, divisors, is_whole, primes_in, shares
 
 LONG = 10 ** 29 + 7
 
@@ -45,6 +45,32 @@ class TestDivision(unittest.TestCase):
 
     def test_nothing_is_divided_by_nought(self):
         self.assertEqual(division(1, 0), [])
+
+
+class TestShares(unittest.TestCase):
+    def test_small_numbers_of_either_sign(self):
+        for one in range(-20, 21):
+            for other in range(-20, 21):
+                s, t = shares(one, other)
+                self.assertEqual(s * one + t * other, math.gcd(one, other))
+
+    def test_long_numbers(self):
+        for one, other in ((LONG, 10 ** 29), (-LONG, 10 ** 29), (LONG, -10 ** 29), (-LONG, -10 ** 29), (0, -LONG)):
+            s, t = shares(one, other)
+            self.assertEqual(s * one + t * other, math.gcd(one, other))
+
+
+class TestDivisors(unittest.TestCase):
+    def test_examples(self):
+        self.assertEqual(divisors(1), [1])
+        self.assertEqual(divisors(12), [1, 2, 3, 4, 6, 12])
+        self.assertEqual(divisors(47), [1, 47])
+
+    def test_primes(self):
+        self.assertEqual(primes_in(1), [])
+        self.assertEqual(primes_in(48), [2, 3])
+        self.assertEqual(primes_in(30), [2, 3, 5])
+        self.assertEqual(primes_in(49), [7])
 
 
 if __name__ == "__main__":
