@@ -1,12 +1,18 @@
 """What several of the tests need."""
 
+import math
+
 from fractionroads.errors import RoadError
 
+# The longest numbers of places, turnings and symbols that are handed in; of rows and loads.
 LONGEST = 10 ** 30 - 1
+LONG = 10 ** 60 - 1
 # Two primes of fifteen figures: their products have twenty-nine.
 PRIME = 100000000000031
 OTHER_PRIME = 100000000000067
 LEVELS = range(1, 49)
+SMALL_PLACES = [(1, 0)] + [(top, bottom) for bottom in range(1, 8) for top in range(-5, 6)
+                           if math.gcd(top, bottom) == 1]
 
 
 def nested(depth, thing):
@@ -68,3 +74,11 @@ def long_places():
     told = [(PRIME * PRIME, OTHER_PRIME * OTHER_PRIME), (LONGEST, LONGEST - 1), (1, LONGEST), (LONGEST, 1),
             (one, other), (other, one), (12345678901234567890123456789, 2 ** 90), (7 ** 35, 48 ** 17)]
     return told + [(-top, bottom) for top, bottom in told]
+
+
+def added(*rows):
+    return [sum(numbers) for numbers in zip(*rows)]
+
+
+def times(many, row):
+    return [many * number for number in row]
