@@ -192,7 +192,7 @@ class TestClosedRows(unittest.TestCase):
                 self.assertEqual(summed(ROOMS[n], CLOSED[n], [int(share) for share in shares]), row)
 
     def test_no_closed_rows_but_their_sums(self):
-        """Each row has 1 or -1 where the others can be made to have 0: a sum of whole numbers is taken by whole ones."""
+        """Each row has 1 or -1 where the others can be made to have 0, so that no others make whole numbers."""
         for n, rows in CLOSED.items():
             left = [list(row) for row in rows]
             while left:
