@@ -48,17 +48,29 @@ def paths(pairs, many):
     return found
 
 
-def closed_rows(room):
-    """Rows of which each closed row is just one sum, each taken a whole number of times."""
+def closing_rows(room):
+    """For each kept road that closes a ring with those of the paths its place in a row, and the row of this ring."""
     pairs = kept_ends(room)
     found = paths(pairs, len(ends(room.level())))
     told = []
-    for unit, (begin, come) in zip(unit_rows(len(pairs)), pairs):
+    for at, unit in enumerate(unit_rows(len(pairs))):
+        begin, come = pairs[at]
         # Out to where the road begins, along it, and back: noughts, where the way out has this road as its last.
         row = added(added(unit, 1, found[begin]), -1, found[come])
         if any(row):
-            told.append(row)
+            told.append((at, row))
     return told
+
+
+def closed_rows(room):
+    """Rows of which each closed row is just one sum, each taken a whole number of times."""
+    return [row for at, row in closing_rows(room)]
+
+
+def closed_parts(room, row):
+    """How many times a closed row takes each of the closed rows that are told."""
+    # Each of these is the only one that has another number than 0 at its own place: 1.
+    return [row[at] for at, ring in closing_rows(room)]
 
 
 def flows(room, row):

@@ -8,9 +8,14 @@ from fractionroads.rooms import added, check_row, road_symbols, symbol_road
 LAST_DEED = 20
 
 
+def is_deed(thing):
+    """True or False, of any thing: whether it is the number of a deed."""
+    return is_whole(thing) and 1 <= thing <= LAST_DEED
+
+
 def check_deed(thing):
     """Refuses any thing that is not the number of a deed."""
-    if not is_whole(thing) or thing < 1 or thing > LAST_DEED:
+    if not is_deed(thing):
         raise NoDeed("a deed is a whole number from 1 to 20")
 
 
@@ -50,11 +55,16 @@ def deed_table(room, m):
     return [symbol_deed(room, m, number) for number in room.kept()]
 
 
+def by_table(row, table):
+    """The sum of the rows of a table of as many columns, each so many times as the row tells."""
+    told = [0] * len(row)
+    for many, table_row in zip(row, table):
+        told = added(told, many, table_row)
+    return told
+
+
 def deed(room, m, row):
     """The row that the deed m leads a row to."""
     check_deed(m)
     check_row(room, row)
-    told = [0] * len(row)
-    for many, deed_row in zip(row, deed_table(room, m)):
-        told = added(told, many, deed_row)
-    return told
+    return by_table(row, deed_table(room, m))

@@ -7,9 +7,14 @@ from fractionroads.turnings import turning_over
 LAST_LEVEL = 48
 
 
+def is_level(thing):
+    """True or False, of any thing: whether it is the number of a level."""
+    return is_whole(thing) and 1 <= thing <= LAST_LEVEL
+
+
 def level_number(thing):
     """The thing itself where it is the number of a level; any other thing is refused."""
-    if not is_whole(thing) or thing < 1 or thing > LAST_LEVEL:
+    if not is_level(thing):
         raise NoLevel("a level is a whole number from 1 to 48")
     return thing
 

@@ -3,7 +3,7 @@
 from fractionroads.errors import NoRow
 from fractionroads.numbers import is_whole
 from fractionroads.places import crossed, way
-from fractionroads.surface import corners, edges, halves, triangles
+from fractionroads.surface import corners, edges, halves, ring_from, thirds, triangles
 from fractionroads.turnings import led
 
 
@@ -52,31 +52,35 @@ def settle(rows, half, number, row):
     rows[half[number]] = [-each for each in row]
 
 
-def rows_by(level, kept):
-    """For each symbol its row, by the kept ones."""
+def settled_order(level, kept):
+    """The symbols whose rows the others of their triangles settle, each behind those that it needs."""
     half = halves(level)
+    told_triangles = triangles(level)
+    known = [half[number] == number or number in kept or half[number] in kept for number in range(len(half))]
+    order = []
+    while False in known:
+        for triangle in told_triangles:
+            lacking = [number for number in triangle if not known[number]]
+            if len(lacking) == 1:
+                order.append(lacking[0])
+                known[lacking[0]] = True
+                known[half[lacking[0]]] = True
+    return order
+
+
+def rows_by(level, kept, order):
+    """For each symbol its row, by the kept ones, and by the order in which the others are settled."""
+    half, third = halves(level), thirds(level)
     noughts = [0] * len(kept)
-    rows = [None] * len(half)
-    for number in range(len(half)):
-        if half[number] == number:
-            settle(rows, half, number, noughts)
+    rows = [noughts] * len(half)
     for at, number in enumerate(kept):
         settle(rows, half, number, noughts[:at] + [1] + noughts[at + 1:])
-    while None in rows:
-        settle_triangles(level, rows, half, noughts)
+    for number in order:
+        row = noughts
+        for other in ring_from(third, number)[1:]:
+            row = added(row, -1, rows[other])
+        settle(rows, half, number, row)
     return rows
-
-
-def settle_triangles(level, rows, half, noughts):
-    """Writes the row of each symbol that is the only one of its triangle without a row."""
-    for triangle in triangles(level):
-        lacking = [number for number in triangle if rows[number] is None]
-        if len(lacking) == 1:
-            row = noughts
-            for number in triangle:
-                if number != lacking[0]:
-                    row = added(row, -1, rows[number])
-            settle(rows, half, lacking[0], row)
 
 
 def symbol_road(level, number):
@@ -97,7 +101,8 @@ class Room:
     def __init__(self, level):
         self.own_level = level
         self.kept_numbers = chosen(level)
-        self.symbol_rows = rows_by(level, self.kept_numbers)
+        self.settled_numbers = settled_order(level, self.kept_numbers)
+        self.symbol_rows = rows_by(level, self.kept_numbers, self.settled_numbers)
 
     def level(self):
         """The level."""
@@ -107,16 +112,24 @@ class Room:
         """The numbers of the kept symbols, rising."""
         return list(self.kept_numbers)
 
+    def settled(self):
+        """The numbers of the symbols that their triangles settle, each behind those that settle it."""
+        return list(self.settled_numbers)
+
     def symbol_row(self, u, v):
         """The row of the symbol that a pair tells."""
         return list(self.symbol_rows[self.own_level.number_of(u, v)])
 
     def load_row(self, load):
         """The row of a load, a list of tuples (u, v, k)."""
+        return self.summed(self.load_times(load))
+
+    def load_times(self, load):
+        """For each symbol how many times a load has it."""
         times = self.no_times()
         for u, v, k in load:
             times[self.own_level.number_of(u, v)] += k
-        return self.summed(times)
+        return times
 
     def road_row(self, one, other):
         """The row of the road from the one place to the other one."""

@@ -18,18 +18,23 @@ def following(level):
     return [level.number_of(u, u + v) for u, v in level.symbols()]
 
 
+def ring_from(leads, first):
+    """The numbers that lead to one another, from this one on, as they lead."""
+    ring = [first]
+    while leads[ring[-1]] != first:
+        ring.append(leads[ring[-1]])
+    return ring
+
+
 def rings(leads):
     """The rings in which numbers lead to one another: lists, each from its least number on, as they lead."""
     told = []
     seen = [False] * len(leads)
     for first in range(len(leads)):
-        ring = []
-        number = first
-        while not seen[number]:
-            seen[number] = True
-            ring.append(number)
-            number = leads[number]
-        if ring != []:
+        if not seen[first]:
+            ring = ring_from(leads, first)
+            for number in ring:
+                seen[number] = True
             told.append(ring)
     return told
 

@@ -1,6 +1,7 @@
 """What several of the tests need."""
 
 import math
+import random
 
 from fractionroads.errors import RoadError
 
@@ -82,3 +83,31 @@ def added(*rows):
 
 def times(many, row):
     return [many * number for number in row]
+
+
+def long_row(room, seed):
+    """A row of numbers of sixty figures, of either sign."""
+    chance = random.Random(seed)
+    return [chance.randrange(-LONG, LONG + 1) for number in room.kept()]
+
+
+def no_rows(room):
+    """Things that are no rows of a room."""
+    many = len(room.kept())
+    told = [[0] * (many + 1), [1] * (many + 2), (0,) * many, [[0] * many], ([0] * many,), tuple([0] * (many + 1)),
+            "0" * many, 0, many, LONGEST, [0] * 2000, nested(5, 0)]
+    told += [thing for thing in OTHER_THINGS if thing != []]
+    if many > 0:
+        told += [[], [0] * (many - 1)]
+        for wrong in (True, False, None, "0", [], [0], (), (0,)):
+            told += [[wrong] + [0] * (many - 1), [0] * (many - 1) + [wrong], [wrong] * many]
+    return told
+
+
+def spoil(told):
+    """Changes a told list, and the lists within it."""
+    for inner in told:
+        if isinstance(inner, list):
+            spoil(inner)
+    told.append("more")
+    told[0] = "other"

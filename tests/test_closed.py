@@ -4,8 +4,7 @@ import random
 import unittest
 
 import reference
-from common import (LEVELS, LONG, LONGEST, OTHER_THINGS, SMALL_PLACES, added, long_places, nested, refusal,
-                    times)
+from common import LEVELS, LONG, SMALL_PLACES, added, long_places, long_row, no_rows, refusal, times
 from fractionroads.closed import border, closed_rows, crossing, is_closed, mirrored
 from fractionroads.ends import end, ends, place_at
 from fractionroads.errors import NoRow, NotClosed
@@ -25,19 +24,6 @@ def summed(room, rows, many):
     told = [0] * len(room.kept())
     for row, number in zip(rows, many):
         told = added(told, times(number, row))
-    return told
-
-
-def no_rows(room):
-    """Things that are no rows of a room."""
-    many = len(room.kept())
-    told = [[0] * (many + 1), [1] * (many + 2), (0,) * many, [[0] * many], ([0] * many,), tuple([0] * (many + 1)),
-            "0" * many, 0, many, LONGEST, [0] * 2000, nested(5, 0)]
-    told += [thing for thing in OTHER_THINGS if thing != []]
-    if many > 0:
-        told += [[], [0] * (many - 1)]
-        for wrong in (True, False, None, "0", [], [0], (), (0,)):
-            told += [[wrong] + [0] * (many - 1), [0] * (many - 1) + [wrong], [wrong] * many]
     return told
 
 
@@ -91,9 +77,7 @@ class TestBorder(unittest.TestCase):
 
     def test_sums(self):
         for room in ROOMS.values():
-            chance = random.Random(room.level().number())
-            one = [chance.randrange(-LONG, LONG + 1) for number in room.kept()]
-            other = [chance.randrange(-LONG, LONG + 1) for number in room.kept()]
+            one, other = long_row(room, 1), long_row(room, 2)
             both = border(room, added(times(3, one), other))
             self.assertEqual(both, added(times(3, border(room, one)), border(room, other)))
             self.assertEqual(sum(both), 0)
@@ -278,8 +262,7 @@ class TestMirrored(unittest.TestCase):
 
     def test_twice(self):
         for room in ROOMS.values():
-            chance = random.Random(room.level().number())
-            row = [chance.randrange(-LONG, LONG + 1) for number in room.kept()]
+            row = long_row(room, room.level().number())
             self.assertEqual(mirrored(room, mirrored(room, row)), row)
             self.assertEqual(mirrored(room, times(-1, row)), times(-1, mirrored(room, row)))
 

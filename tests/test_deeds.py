@@ -1,11 +1,10 @@
 """Points 20 and 21: the roads that deeds lead roads to, deeds of rows, their tables; point 2 of what they tell."""
 
 import math
-import random
 import unittest
 from fractions import Fraction
 
-from common import LEVELS, LONG, LONGEST, OTHER_THINGS, added, long_places, refusal, times
+from common import LEVELS, LONGEST, OTHER_THINGS, added, long_places, long_row, refusal, times
 from fractionroads.closed import closed_rows, crossing, is_closed, mirrored
 from fractionroads.deeds import deed, deed_table, roads_led
 from fractionroads.errors import NoDeed, NoRow
@@ -33,11 +32,6 @@ def tables_added(*tables):
 def through(one, other):
     """The table of what the one does, and the other then does."""
     return [added([0] * len(row), *[times(number, other[at]) for at, number in enumerate(row)]) for row in one]
-
-
-def long_row(room, seed):
-    chance = random.Random(seed)
-    return [chance.randrange(-LONG, LONG + 1) for number in room.kept()]
 
 
 def spot_of(a, b, d, spot):
