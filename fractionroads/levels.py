@@ -65,12 +65,15 @@ class Level:
         """The symbol that a pair tells."""
         return self.all_symbols[self.number_of(u, v)]
 
+    def tells(self, u, v):
+        """True or False: whether a pair of whole numbers tells a symbol."""
+        return (u % self.modulus, v % self.modulus) in self.pair_numbers
+
     def number_of(self, u, v):
         """The number of the symbol that a pair tells."""
-        pair = (u % self.modulus, v % self.modulus)
-        if pair not in self.pair_numbers:
+        if not self.tells(u, v):
             raise NoSymbol("the pair has a common divisor with the level")
-        return self.pair_numbers[pair]
+        return self.pair_numbers[(u % self.modulus, v % self.modulus)]
 
     def turning_of(self, k):
         """A turning that has the symbol of this number."""

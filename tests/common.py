@@ -111,3 +111,16 @@ def spoil(told):
             spoil(inner)
     told.append("more")
     told[0] = "other"
+
+
+def random_load(level, seed, many, figures):
+    """A load of so many tuples; pairs of long numbers, of either sign."""
+    chance = random.Random(seed)
+    n = level.number()
+    symbols = level.symbols()
+    told = []
+    for each in range(many):
+        u, v = chance.choice(symbols)
+        k = chance.randrange(-10 ** figures + 1, 10 ** figures)
+        told.append((u + n * chance.randrange(-10 ** 20, 10 ** 20), v + n * chance.randrange(-10 ** 20, 10 ** 20), k))
+    return told

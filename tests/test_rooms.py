@@ -1,11 +1,11 @@
 """Points 13, 14 and 15: loads, kept symbols, rows of symbols, loads and roads; point 2 of what they tell."""
 
 import math
-import random
 import unittest
 
 import reference
-from common import LEVELS, LONG, LONGEST, PRIME, SMALL_PLACES, added, long_places, refusal, times
+from common import (LEVELS, LONG, LONGEST, PRIME, SMALL_PLACES, added, long_places, random_load, refusal,
+                    times)
 from fractionroads.ends import ends
 from fractionroads.errors import NoSymbol
 from fractionroads.levels import Level
@@ -37,19 +37,6 @@ def upper_walk(spot):
         before, last = last, (number * last[0] - before[0], number * last[1] - before[1])
         told.append(place(*last))
         top, bottom = bottom, number * bottom - top
-    return told
-
-
-def random_load(level, seed, many, figures):
-    """A load of so many tuples; pairs of long numbers, of either sign."""
-    chance = random.Random(seed)
-    n = level.number()
-    symbols = level.symbols()
-    told = []
-    for each in range(many):
-        u, v = chance.choice(symbols)
-        k = chance.randrange(-10 ** figures + 1, 10 ** figures)
-        told.append((u + n * chance.randrange(-10 ** 20, 10 ** 20), v + n * chance.randrange(-10 ** 20, 10 ** 20), k))
     return told
 
 
