@@ -166,6 +166,8 @@ class TestSums(unittest.TestCase):
                      [("half", 1, 0, (1, True))], (("half", 1, 0, (1, 1)),), [("Half", 1, 0, (1, 1))],
                      [("half", 1, 0, (1, 1)), ("third", 1, 2, (0, 2))], [("half", 11, 22, (1, 1))],
                      [("half", 1, 0, (1, 1)), ("half", 0, 0, (0, 1))], [("half", 1, 0, (1, 0))],
+                     [("half", 1, 0, (1, 0)), ("half", 1, 0, (-1, 0))],
+                     [("half", 1, 0, (1, 0)), ("half", 0, 1, (-1, 0))],
                      [("half", 1, 0, (1, 1)), ("half", 1, 2, (1, LONG))], [("half", 1, 0, (LONG - 1, LONG))]):
             self.assertIs(holds(("same", 11, one, other, sums)), False, sums)
 

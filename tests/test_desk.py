@@ -27,7 +27,8 @@ RIGHT = {"N": "fresh", "A": "a", "K": "1", "P": "1/2"}
 NO_NAMES = ("", "A", "aB", "a1", "1", "abcdefghi", "a-b", "a_b", "1/2", "-1", "\u00e9", "a\n", "\ta", "a,b", "*")
 NO_NUMBERS = ("", "a", "-", "+1", "01", "00", "-0", "--1", "1.0", "1/2", "1e2", "1_0", "1234567890", "-1234567890",
               "\u0661", "\u00b2", "1\n", "0x1", "1,0", "9" * 60)
-NO_PLACES = ("", "1", "2/4", "0/0", "-1/0", "1/-2", "01/2", "1/02", "a/b", "1/2/3", "-0/1", "1" + "0" * 30 + "/1", "1/2\n")
+NO_PLACES = ("", "1", "2/4", "0/0", "-1/0", "1/-2", "01/2", "1/02", "a/b", "1/2/3", "-0/1", "1/2\n",
+             "1" + "0" * 30 + "/1")
 
 
 def bottoms(n):
@@ -162,8 +163,8 @@ class TestMaking(unittest.TestCase):
                 k = chance.choice({"times": (0, 1, -1, 999999999, -999999999, 12), "deed": (1, 2, 3, 20),
                                    "turn": parts}[word])
                 told = f"{word} {name} {k} {old}"
-                row = {"times": lambda: times(k, shadow.rows[old]), "deed": lambda: deed(shadow.room, k, shadow.rows[old]),
-                       "turn": lambda: turned(shadow.room, k, shadow.rows[old])}[word]()
+                makes = {"times": lambda room, many, row: times(many, row), "deed": deed, "turn": turned}
+                row = makes[word](shadow.room, k, shadow.rows[old])
             self.assertEqual(desk.say(told), "ok")
             shadow.rows[name] = row
             self.compare(desk, shadow)
@@ -244,7 +245,8 @@ class TestRefusals(unittest.TestCase):
 
     def test_other_first_words(self):
         desk = desk_at(11)
-        for row in ("", " ", "Genus", "GENUS", "genera", "a", "1", "1/2", "say", "help", "name", "ok", "levels 11", "exit"):
+        for row in ("", " ", "Genus", "GENUS", "genera", "a", "1", "1/2", "say", "help", "name", "ok", "levels 11",
+                    "exit"):
             self.check(desk, row, NoText)
             self.check(desk, f"{row} a", NoText)
 
@@ -332,7 +334,8 @@ class TestRefusals(unittest.TestCase):
             refused(desk, row)
             self.assertIs(refused(desk, "border d"), NoName)
         before = state(desk)
-        for row in ("add a a z", "deed a 21 a", "turn a 5 a", "walk a 0/1 2/4", "times a 01 a", "mirror a z", "level 0"):
+        for row in ("add a a z", "deed a 21 a", "turn a 5 a", "walk a 0/1 2/4", "times a 01 a", "mirror a z",
+                    "level 0"):
             refused(desk, row)
             self.assertEqual(state(desk), before)
 

@@ -18,6 +18,7 @@ METHODS = set("""append clear copy count endswith extend find get index insert i
     rsplit rstrip setdefault split splitlines startswith strip update upper values zfill bit_length title
     capitalize swapcase casefold center expandtabs removeprefix removesuffix rindex isascii isdecimal isnumeric
     istitle isidentifier isprintable translate sort add discard""".split())
+CHANGING = ("append", "clear", "extend", "insert", "pop", "remove", "reverse", "setdefault", "update", "sort")
 DOUBLE = {"__init__", "__eq__", "__repr__", "__str__", "__len__", "__enter__", "__exit__"}
 UNUSED_NAMES = set("""attrgetter breakpoint builtins compile copyright credits delattr dir eval exec exit gc getattr
     globals hasattr help id importlib license locals methodcaller os quit setattr vars sys register mro elements
@@ -52,6 +53,17 @@ def bound_names(node):
     if isinstance(node, ast.ExceptHandler) and node.name:
         return [node.name]
     return []
+
+
+def changed_names(node):
+    """The names of what a node changes: items, by methods, by += and the like."""
+    if isinstance(node, ast.Subscript) and not isinstance(node.ctx, ast.Load) and isinstance(node.value, ast.Name):
+        return {node.value.id}
+    if isinstance(node, ast.AugAssign) and isinstance(node.target, ast.Name):
+        return {node.target.id}
+    if isinstance(node, ast.Call) and isinstance(node.func, ast.Attribute) and node.func.attr in CHANGING:
+        return {node.func.value.id} if isinstance(node.func.value, ast.Name) else set()
+    return set()
 
 
 def is_docstring(node):
@@ -185,6 +197,19 @@ class TestCode(unittest.TestCase):
             for inner in ast.iter_child_nodes(node):
                 if isinstance(inner, ast.Call) and isinstance(inner.func, ast.Name) and inner.func.id == "set":
                     self.assertIsInstance(node, (ast.Assign, ast.Compare), f"{name}:{inner.lineno}")
+
+    def test_what_a_loop_iterates_over_stays(self):
+        for name, loop in nodes():
+            if isinstance(loop, ast.For):
+                iterated = {node.id for node in ast.walk(loop.iter) if isinstance(node, ast.Name)}
+                for node in [inner for part in loop.body for inner in ast.walk(part)]:
+                    self.assertFalse(iterated & changed_names(node), f"{name}:{loop.lineno}")
+
+    def test_dicts_and_lists_at_module_level_hold_no_others(self):
+        for name, text in sources():
+            for node in [part.value for part in ast.parse(text).body if isinstance(part, ast.Assign)]:
+                inner = [each for each in ast.walk(node) if isinstance(each, (ast.Dict, ast.List, ast.Set))]
+                self.assertIn(inner, ([], [node]), name)
 
     def test_no_two_files_import_from_each_other(self):
         needs = {name[:-3]: set() for name, text in sources()}

@@ -40,6 +40,14 @@ def with_one_sign_changed(text):
     return told
 
 
+def compare(test, read, text, told):
+    """What is read of a text is what was told by words, or it is refused where that is None."""
+    if told is None:
+        test.assertIs(refusal(read, text), NoText, text)
+    else:
+        test.assertEqual(read(text), told)
+
+
 class TestPlaces(unittest.TestCase):
     def test_examples(self):
         for spot, text in (((1, 0), "1/0"), ((0, 1), "0/1"), ((-3, 2), "-3/2"), ((5, 1), "5/1"), ((10, 101), "10/101"),
@@ -61,10 +69,10 @@ class TestPlaces(unittest.TestCase):
         self.assertEqual(len(show_place((3 ** 4000, 2 ** 6000))), 1909 + 1 + 1807)
 
     def test_no_place(self):
-        for text in ("", "1", "/", "1/", "/1", "1//2", "1/2/3", "2/4", "0/0", "0/2", "2/0", "-1/0", "1/-2", "-1/-2", "-0/1",
-                     "+1/2", "01/2", "1/02", "00/1", "1/00", " 1/2", "1/2 ", "1 /2", "1/ 2", "1/2\n", "\n1/2", "--1/2",
-                     "-/1", "1/-", "1.0/2", "1e3/7", "1_0/3", "0x1/2", "\u0661/2", "1/\u0662", "\u00b2/1", "one/two",
-                     "(1, 2)", "1:2", "1/2 1/3", "1" + "0" * 30 + "/1", "1/1" + "0" * 30, "-1" + "0" * 30 + "/1",
+        for text in ("", "1", "/", "1/", "/1", "1//2", "1/2/3", "2/4", "0/0", "0/2", "2/0", "-1/0", "1/-2", "-1/-2",
+                     "-0/1", "+1/2", "01/2", "1/02", "00/1", "1/00", " 1/2", "1/2 ", "1 /2", "1/ 2", "1/2\n", "\n1/2",
+                     "--1/2", "-/1", "1/-", "1.0/2", "1e3/7", "1_0/3", "0x1/2", "\u0661/2", "1/\u0662", "\u00b2/1",
+                     "one/two", "(1, 2)", "1:2", "1/2 1/3", "1" + "0" * 30 + "/1", "1/1" + "0" * 30, "-1" + "0" * 30 + "/1",
                      "0" * 30 + "1/2", "1" * 5000 + "/1", "1/" + "7" * 5000, "/" * 3000, "-" * 40 + "1/1"):
             self.assertIs(refusal(read_place, text), NoText, text[:60])
 
@@ -76,20 +84,12 @@ class TestPlaces(unittest.TestCase):
                 for each in range(length):
                     at, rest = divmod(at, len(signs))
                     text += signs[rest]
-                told = place_by_words(text)
-                if told is None:
-                    self.assertIs(refusal(read_place, text), NoText, text)
-                else:
-                    self.assertEqual(read_place(text), told)
+                compare(self, read_place, text, place_by_words(text))
 
     def test_one_sign_changed(self):
-        for text in ("1/0", "0/1", "-3/2", "17/12", "-10/7", "9" * 30 + "/" + "9" * 29 + "8", "-" + "1" + "0" * 29 + "/3"):
+        for text in ("1/0", "0/1", "-3/2", "17/12", "-10/7", "9" * 30 + "/" + "9" * 29 + "8", "-1" + "0" * 29 + "/3"):
             for other in with_one_sign_changed(text):
-                told = place_by_words(other)
-                if told is None:
-                    self.assertIs(refusal(read_place, other), NoText, other)
-                else:
-                    self.assertEqual(read_place(other), told)
+                compare(self, read_place, other, place_by_words(other))
 
     def test_no_texts(self):
         for thing in NO_TEXTS:
@@ -130,11 +130,7 @@ class TestWalks(unittest.TestCase):
     def test_one_sign_changed(self):
         for text in ("1/0 0/1", "-3/2 17/12 1/1", "5/7 " + "9" * 30 + "/1"):
             for other in with_one_sign_changed(text):
-                told = walk_by_words(other)
-                if told is None:
-                    self.assertIs(refusal(read_walk, other), NoText, other)
-                else:
-                    self.assertEqual(read_walk(other), told)
+                compare(self, read_walk, other, walk_by_words(other))
 
 
 class TestPointTwo(unittest.TestCase):

@@ -187,8 +187,9 @@ class TestDeeds(unittest.TestCase):
                 half = half_wide(room, m)
                 self.assertEqual(len(half), genus(room.level()) + 1)
                 for x in (-3, 0, 1, 10):
-                    value = sum(number * x ** power for power, number in enumerate(half))
-                    self.assertEqual(value * value, sum(number * x ** power for power, number in enumerate(wide(table))))
+                    one, both = [sum(number * x ** power for power, number in enumerate(numbers))
+                                 for numbers in (half, wide(table))]
+                    self.assertEqual(one * one, both)
                 if math.gcd(m, n) == 1:
                     self.assertEqual(trace(table), 2 * told_by_forms(room.level(), m))
 
